@@ -1,0 +1,102 @@
+"""The interface: every name, argument and keyword as the document writes it, defined where it is listed."""
+
+import importlib
+import inspect
+import unittest
+
+# For each module its functions and classes; for each class its methods, with their parameters behind self.
+# A parameter behind "*" is passed by keyword; "=.." is what is passed if it is left out.
+FUNCTIONS = {
+    "solving": {"solve": "table, values", "least_solution": "table, values, form", "dip": "form", "below": "form"},
+    "joints": {"scatter": "kind, strengths, arriving", "common": "kind, strengths, arriving"},
+    "reading": {"format_web": "web", "parse_web": "text"},
+    "ways": {"distances": "web, joint", "ear_distance": "web, first, second", "pieces": "web",
+             "odd_round": "web, ear"},
+    "shapes": {"dual": "web", "stretched": "web, times", "scaled": "web, factor",
+               "re_eared": "web, ear, strength", "with_ear": "web, joint, strength", "without_ear": "web, ear",
+               "ears_ordered": "web, order", "side_by_side": "*webs"},
+}
+CLASSES = {
+    "fracs": {"Frac": {"__init__": "num=0, den=1", "over": "b", "of": "value", "read": "text"}},
+    "tables": {"Table": {"__init__": "rows, *, width=None", "transposed": "", "column": "j", "rank": "",
+                         "inverse": "", "unit": "size", "zero": "height, width", "diagonal": "numbers"}},
+    "spaces": {"Space": {"__init__": "size, *lists", "whole": "size", "kernel": "table", "image": "table",
+                         "across": "form", "parts": "numbers, form"}},
+    "powers": {"Powers": {"__init__": "numbers", "delayed": "ticks", "cut": "count"}},
+    "polys": {"Poly": {"__init__": "coefficients", "reversed_to": "size", "powers": "count", "common": "a, b"}},
+    "ratios": {"Ratio": {"__init__": "top, bottom", "over": "b", "powers": "count"}},
+    "players": {"Player": {"rest": "", "energy": "state", "form": "", "ear_energy": "numbers",
+                           "alone": "state, ticks"}},
+    "webs": {"Web": {"__init__": "joints=(), rods=(), ears=()", "tick": "state, knocks", "back": "state, heard",
+                     "product": "first, second", "flip": "state", "commons": "state, knocks",
+                     "forth": "state, rod", "backs": "state, rod", "arms": "joint",
+                     "line": "strengths, *, ear=1, end='level'"}},
+}
+STATIC = {"Frac": ["of", "read"], "Table": ["unit", "zero", "diagonal"], "Space": ["whole", "kernel"],
+          "Poly": ["common"]}
+SIGNS = {
+    "Frac": "add radd sub rsub mul rmul floordiv rfloordiv mod rmod pow neg abs bool eq lt le gt ge str",
+    "Table": "getitem iter add sub mul rmul neg eq call",
+    "Space": "len iter contains or and le eq",
+    "Powers": "len iter getitem add radd sub rsub mul rmul floordiv neg eq",
+    "Poly": "add radd sub rsub mul rmul floordiv mod neg eq call",
+    "Ratio": "add radd sub rsub mul rmul neg eq call",
+    "Web": "eq",
+}
+PROPERTIES = {("polys", "Poly"): ["degree"], ("webs", "Web"): ["level", "plain"]}
+
+
+def module(name):
+    return importlib.import_module("rodwebs." + name)
+
+
+def parameters(function, skipped=0):
+    given = list(inspect.signature(function).parameters.values())[skipped:]
+    return str(inspect.Signature(given))[1:-1]
+
+
+class Interface(unittest.TestCase):
+    def test_functions(self):
+        for name, functions in FUNCTIONS.items():
+            for function, wanted in functions.items():
+                found = getattr(module(name), function)
+                self.assertTrue(inspect.isfunction(found))
+                self.assertEqual(found.__module__, "rodwebs." + name)
+                self.assertEqual(parameters(found), wanted, function)
+
+    def test_classes(self):
+        for name, classes in CLASSES.items():
+            for title, methods in classes.items():
+                found = getattr(module(name), title)
+                self.assertEqual(found.__module__, "rodwebs." + name)
+                for method, wanted in methods.items():
+                    held = vars(found)[method]
+                    if isinstance(held, staticmethod):
+                        self.assertIn(method, STATIC[title])
+                        self.assertEqual(parameters(held.__func__), wanted)
+                    elif isinstance(held, classmethod):
+                        self.assertEqual((title, method), ("Web", "line"))
+                        self.assertEqual(parameters(held.__func__, 1), wanted)
+                    else:
+                        self.assertNotIn(method, STATIC.get(title, []))
+                        self.assertEqual(parameters(held, 1), wanted, method)
+
+    def test_signs(self):
+        for name, classes in CLASSES.items():
+            for title in classes:
+                for sign in SIGNS.get(title, "").split():
+                    self.assertIn(f"__{sign}__", vars(getattr(module(name), title)), title)
+
+    def test_properties(self):
+        for (name, title), listed in PROPERTIES.items():
+            for listed_name in listed:
+                self.assertIsInstance(vars(getattr(module(name), title))[listed_name], property)
+
+    def test_class_values(self):
+        self.assertEqual(module("fracs").Frac.MOST_DIGITS, 60)
+        web = module("webs").Web
+        self.assertEqual((web.MOST_JOINTS, web.MOST_RODS, web.MOST_EARS, web.MOST_CELLS), (8, 8, 4, 24))
+
+
+if __name__ == "__main__":
+    unittest.main()

@@ -281,7 +281,7 @@ class Work(TableLooks, unittest.TestCase):
         for height, width in [(0, 0), (2, 3), (0, 4), (4, 0), (100, 1), (1, 100)]:
             self.holds(Table.zero(height, width), [[0] * width] * height, width)
         for height, width, count in [(101, 1, 101), (1, 101, 101), (-1, 102, -1), (102, -1, 102), (0, 101, 101),
-                                     (0, -1, -1), (3, -2, -2)]:
+                                     (0, -1, -1), (3, -2, -2), (3, -1, -1)]:
             self.refused(BadCount, {"count": count}, Table.zero, height, width)
 
     def test_diagonal(self):

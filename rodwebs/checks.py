@@ -1,7 +1,7 @@
 """Looks at arguments that several modules share."""
 
 from rodwebs.errors import (
-    BadCount, BadKind, BadLength, BadOrder, BadSizes, BadStrength, BadTwist, NoEar, NoJoint, NoRod,
+    BadCount, BadKind, BadLength, BadOrder, BadSizes, BadStrength, BadTwist, Mismatch, NoEar, NoJoint, NoRod,
 )
 
 KINDS = ("level", "stream")
@@ -18,6 +18,25 @@ def check_length(numbers, wanted):
     """BadSizes(given, wanted) if a list does not have the length that fits."""
     if len(numbers) != wanted:
         raise BadSizes(len(numbers), wanted)
+
+
+def check_lengths(lists, wanted):
+    """BadSizes(given, wanted) for the first list of a list that does not have the length that fits."""
+    for numbers in lists:
+        check_length(numbers, wanted)
+
+
+def check_squares(tables):
+    """Mismatch() if tables are not all square and of one size."""
+    for table in tables:
+        if table.height != table.width or table.width != tables[0].width:
+            raise Mismatch()
+
+
+def check_agreeing(one, other):
+    """Mismatch() if two players do not have the same ears with the same strengths."""
+    if one.strengths != other.strengths:
+        raise Mismatch()
 
 
 def check_kind(kind):

@@ -31,6 +31,16 @@ class Player:
         units = Table.unit(self.cells).rows
         return Table([[self.product(one, other) for other in units] for one in units], width=self.cells)
 
+    def tick_tables(self):
+        """The four tables of a tick: from the state and from the knocks to the new state, then to what is heard."""
+        states = [self.tick(state, [0] * self.ears) for state in Table.unit(self.cells)]
+        knocks = [self.tick(self.rest(), numbers) for numbers in Table.unit(self.ears)]
+        return (
+            _of_columns([new for new, _ in states], self.cells), _of_columns([new for new, _ in knocks], self.cells),
+            _of_columns([heard for _, heard in states], self.ears),
+            _of_columns([heard for _, heard in knocks], self.ears),
+        )
+
     def ear_energy(self, numbers):
         """The energy of one number for each ear."""
         check_length(numbers, self.ears)
@@ -46,3 +56,7 @@ class Player:
         for _ in range(ticks):
             now = self.tick(now, silence)[0]
         return now
+
+
+def _of_columns(columns, height):
+    return Table(columns, width=height).transposed()

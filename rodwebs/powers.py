@@ -83,6 +83,12 @@ class Powers:
         return Powers(self.numbers[:count])
 
 
+def known_quotient(first, second):
+    """The quotient of two Powers of one length, which has no numbers if they have none."""
+    # Powers divides by no series of which nothing is known.
+    return first // second if len(first) > 0 else first
+
+
 def convolved(first, second, count):
     """The first so many coefficients of the product of two lists of coefficients."""
     tops, den = shared(first)

@@ -3,6 +3,7 @@
 from rodwebs.errors import DivisionByZero
 from rodwebs.fracs import Frac, is_number
 from rodwebs.polys import Poly
+from rodwebs.powers import known_quotient
 
 
 class Ratio:
@@ -78,9 +79,7 @@ class Ratio:
 
     def powers(self, count):
         """The first numbers of the power series."""
-        known = self.top.powers(count)
-        # Powers divides by no series of which nothing is known.
-        return known // self.bottom.powers(count) if count else known
+        return known_quotient(self.top.powers(count), self.bottom.powers(count))
 
 
 def _ratio_of(value):

@@ -88,6 +88,24 @@ class Space:
         return inside, [x - y for x, y in zip(given, inside)]
 
 
+def grown(rows, table, ticks):
+    """The list of the spaces of what comes in 0, 1, 2 .. ticks.
+
+    In each tick the rows come, and the table takes on what came before.
+    """
+    spaces = [Space(table.width)]
+    while len(spaces) <= ticks:
+        last = spaces[-1]
+        # The numbers of a basis stay shorter than those of the rows that belong to the ticks.
+        new = rows + [table(row) for row in last.basis]
+        more = Space(table.width, *new)
+        # Once a tick brings nothing new, no later one does.
+        if len(more) == len(last):
+            return spaces + [last] * (ticks + 1 - len(spaces))
+        spaces.append(more)
+    return spaces
+
+
 def _check_sizes(first, second):
     if first.size != second.size:
         raise BadSizes(second.size, first.size)

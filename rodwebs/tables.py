@@ -62,8 +62,7 @@ class Table:
 
     def __call__(self, numbers):
         check_length(numbers, self.width)
-        given = fracs_of(numbers)
-        return [dot(row, given) for row in self.rows]
+        return applied(self, fracs_of(numbers))
 
     def transposed(self):
         """The table with the columns as its rows."""
@@ -108,6 +107,11 @@ class Table:
         size = len(numbers)
         rows = [[numbers[k] if k == col else Frac(0) for col in range(size)] for k in range(size)]
         return Table(rows, width=size)
+
+
+def applied(table, numbers):
+    """The table applied to a list of Fracs that has its width."""
+    return [dot(row, numbers) for row in table.rows]
 
 
 def _check_rows(rows):

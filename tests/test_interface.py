@@ -4,6 +4,8 @@ import importlib
 import inspect
 import unittest
 
+from rodwebs.players import Player
+
 # For each module its functions and classes; for each class its methods, with their parameters behind self.
 # A parameter behind "*" is passed by keyword; "=.." is what is passed if it is left out.
 FUNCTIONS = {
@@ -15,6 +17,14 @@ FUNCTIONS = {
     "shapes": {"dual": "web", "stretched": "web, times", "scaled": "web, factor",
                "re_eared": "web, ear, strength", "with_ear": "web, joint, strength", "without_ear": "web, ear",
                "ears_ordered": "web, order", "side_by_side": "*webs"},
+    "runs": {"play": "player, start, knocks", "echoes": "player, count",
+             "echo": "player, count, *, heard=0, knocked=0", "sounded": "echoes, knocks",
+             "play_back": "player, end, heard", "mirrored": "record"},
+    "heardparts": {"unheard": "player, ticks, *, ears=None", "silent": "player, *, ears=None",
+                   "heard_space": "player", "parted": "player, state", "heard_part": "player"},
+    "tellback": {"inside_table": "strengths, echoes", "told_back": "strengths, echoes",
+                 "inside_product": "strengths, echoes, first, second", "determinant": "echoes"},
+    "endless": {"stay": "player, state", "heard_for_ever": "player, state, ear", "portions": "player"},
 }
 CLASSES = {
     "fracs": {"Frac": {"__init__": "num=0, den=1", "over": "b", "of": "value", "read": "text"}},
@@ -31,9 +41,18 @@ CLASSES = {
                      "product": "first, second", "flip": "state", "commons": "state, knocks",
                      "forth": "state, rod", "backs": "state, rod", "arms": "joint",
                      "line": "strengths, *, ear=1, end='level'"}},
+    "records": {"Record": {"__init__": "player, start", "begin": "", "now": "", "knock_lists": "", "heard_lists": "",
+                           "states": "", "step": "knocks", "undo": ""}},
+    "cores": {"Core": {"__init__": "a, b, c, d, *, form, strengths", "tick": "state, knocks", "back": "state, heard",
+                       "product": "first, second", "of": "player", "backward": "", "dual": "", "negated": "",
+                       "reordered": "order", "beside": "other"}},
+    "leads": {"Lead": {"__init__": "first, second, table", "same": "player", "then": "other", "back": ""}},
+    "piles": {"Pile": {"__init__": "panes, *, end=1, strength=1", "tick": "state, knocks", "back": "state, heard",
+                       "product": "first, second", "echo": "count", "ratio": "", "as_web": "", "behind": "pane",
+                       "negated": "", "with_end": "end", "spread": "times", "re_eared": "strength"}},
 }
 STATIC = {"Frac": ["of", "read"], "Table": ["unit", "zero", "diagonal"], "Space": ["whole", "kernel"],
-          "Poly": ["common"]}
+          "Poly": ["common"], "Core": ["of"], "Lead": ["same"]}
 SIGNS = {
     "Frac": "add radd sub rsub mul rmul floordiv rfloordiv mod rmod pow neg abs bool eq lt le gt ge str",
     "Table": "getitem iter add sub mul rmul neg eq call",
@@ -42,8 +61,13 @@ SIGNS = {
     "Poly": "add radd sub rsub mul rmul floordiv mod neg eq call",
     "Ratio": "add radd sub rsub mul rmul neg eq call",
     "Web": "eq",
+    "Record": "len getitem iter iadd",
+    "Core": "eq",
+    "Lead": "call",
+    "Pile": "len iter eq",
 }
-PROPERTIES = {("polys", "Poly"): ["degree"], ("webs", "Web"): ["level", "plain"]}
+PROPERTIES = {("polys", "Poly"): ["degree"], ("webs", "Web"): ["level", "plain"],
+              ("records", "Record"): ["energy_in", "energy_out", "energy_left"]}
 
 
 def module(name):
@@ -92,10 +116,18 @@ class Interface(unittest.TestCase):
             for listed_name in listed:
                 self.assertIsInstance(vars(getattr(module(name), title))[listed_name], property)
 
+    def test_players(self):
+        for name, title in (("webs", "Web"), ("cores", "Core"), ("piles", "Pile")):
+            found = getattr(module(name), title)
+            self.assertTrue(issubclass(found, Player))
+            for method in ("tick", "back", "product"):
+                self.assertIn(method, vars(found))
+
     def test_class_values(self):
         self.assertEqual(module("fracs").Frac.MOST_DIGITS, 60)
         web = module("webs").Web
         self.assertEqual((web.MOST_JOINTS, web.MOST_RODS, web.MOST_EARS, web.MOST_CELLS), (8, 8, 4, 24))
+        self.assertEqual(module("records").Record.MOST_TICKS, 200)
 
 
 if __name__ == "__main__":

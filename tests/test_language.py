@@ -35,6 +35,7 @@ WORDS = set("""type typing typing_extensions enum Enum IntEnum StrEnum Flag IntF
     namedtuple NamedTuple TypedDict TYPE_CHECKING abstractmethod""".split())
 STARTS = ("_wall", "_pe_", "_dcw_", "_enum_", "_cm_", "_twin_re_", "_lay_", "_law_", "_stub_", "_sre", "_WallAttr",
           "_cold", "_tuplegetter", "_outside", "_record", "_written_out", "_member_names")
+CHANGING = set("append clear extend insert pop remove reverse setdefault sort update".split())
 STATEMENTS = (ast.Assign, ast.AnnAssign, ast.AugAssign, ast.If, ast.While, ast.For, ast.Return, ast.Break,
               ast.Continue, ast.Pass, ast.Raise, ast.Assert, ast.Delete, ast.Nonlocal, ast.Match, ast.With, ast.Try,
               ast.Expr, ast.FunctionDef, ast.ClassDef, ast.ImportFrom)
@@ -229,6 +230,25 @@ class Statements(unittest.TestCase):
                         self.assertIsInstance(node.right, ast.Constant, (name, node.lineno))
                         self.assertIn(node.right.value, range(65))
 
+    def test_least_and_greatest(self):
+        """L5: as Frac has an order, `min` and `max` have an argument that is plainly an integer; so has `sorted`."""
+        for name, tree in trees():
+            for node in ast.walk(tree):
+                if isinstance(node, ast.Call) and isinstance(node.func, ast.Name) and node.func.id in (
+                        "min", "max", "sorted"):
+                    given = [arg.elt if isinstance(arg, ast.ListComp) else arg for arg in node.args]
+                    plain = [arg for arg in given if isinstance(arg, ast.Constant) or isinstance(arg, ast.Call)
+                             and isinstance(arg.func, ast.Name) and arg.func.id in ("len", "int")]
+                    self.assertTrue(plain, (name, node.lineno))
+
+    def test_no_names_in_comparisons(self):
+        """L28: `==`, texts and lengths assign nothing."""
+        for name, tree in trees():
+            for node in functions(tree):
+                if node.name in ("__eq__", "__str__", "__repr__", "__len__"):
+                    for part in ast.walk(node):
+                        self.assertNotIsInstance(part, (ast.Assign, ast.For, ast.While), (name, node.lineno))
+
     def test_is(self):
         """L20: `is` beside None, True and False only."""
         for name, tree in trees():
@@ -258,10 +278,66 @@ class Statements(unittest.TestCase):
                     self.assertRegex(token.string, r"^[f]?[\"']", (name, token.start))
 
     def test_generators(self):
-        """L7, L23: no generator expressions, as classes have `==`; nothing is yielded yet."""
+        """L7, L23: no generator expressions, as classes have `==`; one method yields, and nothing else has its name."""
+        yielding, named, called = [], [], []
         for name, tree in trees():
             for node in ast.walk(tree):
-                self.assertNotIsInstance(node, (ast.GeneratorExp, ast.Yield, ast.YieldFrom, ast.Lambda), name)
+                self.assertNotIsInstance(node, (ast.GeneratorExp, ast.YieldFrom, ast.Lambda), name)
+                if isinstance(node, (ast.FunctionDef, ast.ClassDef)):
+                    named.append(node.name)
+                if isinstance(node, ast.Attribute):
+                    called.append(node.attr)
+            for node in functions(tree):
+                if [part for part in ast.walk(node) if isinstance(part, ast.Yield)]:
+                    yielding.append((name, node.name))
+                    self.assertFalse(node.decorator_list)
+        self.assertEqual(yielding, [("records.py", "states")])
+        self.assertEqual(named.count("states"), 1)
+        # It is not called in the package, and no attribute has its name.
+        self.assertNotIn("states", called)
+
+    def test_what_operators_run(self):
+        """L5: what an operator or a property runs calls no object and changes nothing but lists and dicts of its own.
+
+        All functions and methods are followed, by their names, that may be run; in-place operators may change.
+        """
+        bodies, started, classes = {}, [], set()
+        for _, tree in trees():
+            classes |= {node.name for node in ast.walk(tree) if isinstance(node, ast.ClassDef)}
+            for node in functions(tree):
+                bodies.setdefault(node.name, []).append(node)
+                plain = node.name.startswith("__") and node.name not in ("__init__", "__call__", "__iadd__")
+                if plain or [part for part in node.decorator_list if part.id == "property"]:
+                    started.append(node.name)
+        seen = set()
+        while started:
+            title = started.pop()
+            if title not in seen:
+                seen.add(title)
+                for node in bodies[title]:
+                    started.extend(self.run_by(node, bodies, classes))
+        self.assertLessEqual({"product", "energy", "reduced", "applied"}, seen)
+
+    def run_by(self, function, bodies, classes):
+        own = set()
+        for node in ast.walk(function):
+            if isinstance(node, ast.Assign) and isinstance(node.targets[0], ast.Name):
+                made = node.value.func.id if isinstance(node.value, ast.Call) and isinstance(
+                    node.value.func, ast.Name) else ""
+                if isinstance(node.value, (ast.List, ast.ListComp, ast.Dict)) or made in ("list", "dict", "sorted"):
+                    own.add(node.targets[0].id)
+        for node in ast.walk(function):
+            if isinstance(node, (ast.Attribute, ast.Subscript)) and not isinstance(node.ctx, ast.Load):
+                self.assertIsInstance(node, ast.Subscript, (function.name, node.lineno))
+                self.assertIn(node.value.id, own, (function.name, node.lineno))
+            if isinstance(node, ast.Call):
+                inner = node.func.id if isinstance(node.func, ast.Name) else node.func.attr
+                if inner in CHANGING:
+                    self.assertIn(node.func.value.id, own, (function.name, node.lineno))
+                elif inner in bodies:
+                    yield inner
+                elif inner not in classes:
+                    self.assertIn(inner, BUILTINS | METHODS | LIBRARY["math"], (function.name, node.lineno))
 
 
 class Names(unittest.TestCase):
@@ -275,7 +351,8 @@ class Names(unittest.TestCase):
                 self.assertNotIn(bound, UNUSED | UNUSED_NAMES, name)
                 if bound in methods:
                     continue
-                self.assertFalse(hasattr(builtins, bound), (name, bound))
+                # Python itself keeps what was shown last under the name "_".
+                self.assertFalse(bound != "_" and hasattr(builtins, bound), (name, bound))
                 self.assertFalse(bound.startswith(STARTS), (name, bound))
                 self.assertTrue(bound == "_" or re.match(r"^_?[A-Za-z]", bound), (name, bound))
 
@@ -305,7 +382,7 @@ class Names(unittest.TestCase):
         for _, tree in trees():
             own |= {node.name for node in functions(tree)} | {"__init__"}
         # Attributes that hold an object that is called.
-        own |= {"top", "bottom"}
+        own |= {"top", "bottom", "table"}
         for name, tree in trees():
             for node in ast.walk(tree):
                 if isinstance(node, ast.Call) and isinstance(node.func, ast.Attribute):
@@ -332,7 +409,7 @@ class Names(unittest.TestCase):
 
     def test_methods_and_attributes(self):
         """L5, L18: static and class methods, properties and class values share their names with nothing."""
-        attributes, plain, fixed = set(), [], []
+        attributes, plain, fixed = set(), set(), {}
         for _, tree in trees():
             for node in ast.walk(tree):
                 if isinstance(node, ast.Attribute) and isinstance(node.ctx, ast.Store):
@@ -341,13 +418,16 @@ class Names(unittest.TestCase):
                     names = [part.name for part in node.body if isinstance(part, ast.FunctionDef)]
                     self.assertEqual(len(names), len(set(names)), node.name)
                     for part in node.body:
-                        if isinstance(part, ast.FunctionDef):
-                            (fixed if part.decorator_list else plain).append(part.name)
+                        if isinstance(part, ast.FunctionDef) and part.decorator_list:
+                            fixed.setdefault(part.name, set()).add(part.decorator_list[0].id)
+                        elif isinstance(part, ast.FunctionDef):
+                            plain.add(part.name)
                         if isinstance(part, ast.Assign):
-                            fixed.append(part.targets[0].id)
-        self.assertFalse(set(fixed) & (set(plain) | attributes | METHODS))
-        self.assertFalse(attributes & set(plain))
-        self.assertEqual(len(fixed), len(set(fixed)))
+                            fixed.setdefault(part.targets[0].id, set()).add("value")
+        self.assertFalse(set(fixed) & (plain | attributes | METHODS))
+        self.assertFalse(attributes & plain)
+        # Several classes may have one name for things of one kind, as static methods called "of".
+        self.assertEqual([name for name in fixed if len(fixed[name]) > 1], [])
         self.assertFalse(attributes & {"items", "keys", "values", "pop", "update", "append", "clear", "extend",
                                        "insert", "remove", "reverse", "setdefault", "sort", "args", "encode",
                                        "decode", "hex", "fromhex", "format", "format_map", "mro"})

@@ -132,3 +132,64 @@ def told_webs(draw, count):
 
 def some_state(draw, count):
     return [some_fraction(draw) for _ in range(count)]
+
+
+class ToldPile:
+    """A pile as point 26 tells it, all numbers Fractions."""
+
+    def __init__(self, panes, end=1, strength=Fraction(1)):
+        self.panes = list(panes)
+        self.end = end
+        self.strength = Fraction(strength)
+        self.cells = len(self.panes)
+
+    def tick(self, state, knocks):
+        downs = [knocks[0]]
+        for pane, number in zip(self.panes, state):
+            downs.append((1 + pane) * downs[-1] - pane * number)
+        ups = [pane * down + (1 - pane) * number for pane, down, number in zip(self.panes, downs, state)]
+        ups.append(self.end * downs[-1])
+        return ups[1:], ups[:1]
+
+    def cell_strengths(self):
+        out, strength = [], self.strength
+        for pane in self.panes:
+            strength = strength * (1 - pane) / (1 + pane)
+            out.append(strength)
+        return out
+
+    def product(self, first, second):
+        return sum((z * x * y for z, x, y in zip(self.cell_strengths(), first, second)), Fraction(0))
+
+    def echoes(self, count):
+        state, knocks, out = [Fraction(0)] * self.cells, [Fraction(1)], []
+        for _ in range(count):
+            state, heard = self.tick(state, knocks)
+            out += heard
+            knocks = [Fraction(0)]
+        return out
+
+
+def some_pane(draw, most=9):
+    below = draw.randint(2, most)
+    return Fraction(draw.randint(1 - below, below - 1), below)
+
+
+def some_pile(draw, count, most=9):
+    return ToldPile([some_pane(draw, most) for _ in range(count)], draw.choice([1, -1]), some_strength(draw))
+
+
+def heard_alone(told, state, ticks, ears=None):
+    """What the ears (all of them for None) hear in so many ticks alone: one flat list."""
+    out = []
+    count = len(told.ears)
+    for _ in range(ticks):
+        state, heard = told.tick(state, [Fraction(0)] * count)
+        out += heard if ears is None else [heard[ear] for ear in ears]
+    return out
+
+
+def heard_columns(told, ticks, ears=None):
+    """For each cell what is heard alone from the state with 1 in it."""
+    states = [[Fraction(int(k == cell)) for k in range(told.cells)] for cell in range(told.cells)]
+    return [heard_alone(told, state, ticks, ears) for state in states]

@@ -33,12 +33,12 @@ class Player:
 
     def tick_tables(self):
         """The four tables of a tick: from the state and from the knocks to the new state, then to what is heard."""
-        states = [self.tick(state, [0] * self.ears) for state in Table.unit(self.cells)]
-        knocks = [self.tick(self.rest(), numbers) for numbers in Table.unit(self.ears)]
+        inside = [self.tick(state, [0] * self.ears) for state in Table.unit(self.cells)]
+        outside = [self.tick(self.rest(), knocks) for knocks in Table.unit(self.ears)]
         return (
-            _of_columns([new for new, _ in states], self.cells), _of_columns([new for new, _ in knocks], self.cells),
-            _of_columns([heard for _, heard in states], self.ears),
-            _of_columns([heard for _, heard in knocks], self.ears),
+            _of_columns([new for new, _ in inside], self.cells), _of_columns([new for new, _ in outside], self.cells),
+            _of_columns([heard for _, heard in inside], self.ears),
+            _of_columns([heard for _, heard in outside], self.ears),
         )
 
     def ear_energy(self, numbers):

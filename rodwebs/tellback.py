@@ -165,7 +165,7 @@ def _core_told(inside, echoes, places):
     # Behind its leading ones the reduced form tells how the states of the places are made of those in the cells.
     _, basis = reduced([[inside.product_of(place, other) for other in wanted] for place in places])
     size = len(places)
-    heard = [echoes[place // ears].column(place - place // ears * ears) for place in later]
+    heard = [echoes[place // ears].column(place % ears) for place in later]
     return Core(
         Table([row[size:2 * size] for row in basis]), Table([row[2 * size:] for row in basis], width=ears),
         Table(heard, width=ears).transposed(), echoes[0],

@@ -152,6 +152,8 @@ class Making(Looks, unittest.TestCase):
         self.unkept(Table([[0, 0], [1, 1]]), none, out, Table([]), Table.unit(2), [])
         # So do a cell and an ear.
         self.unkept(ONE, B, Table([[0]]), D, ONE, [1])
+        # What two cells change together may hide what one of them changes.
+        self.unkept(Table([[1, -1], [0, 1]]), Table([[0], [0]]), Table([[0, 1]]), D, Table.unit(2), [1])
         for change in units(4):
             core = dense_core()
             row = [list(x) for x in core.a]

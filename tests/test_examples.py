@@ -9,6 +9,10 @@ EXAMPLES = """
 >>> web = Web(["level", "level"], [(0, 1, 1, 1)], [(0, 3)])
 >>> [str(x) for x in echo(web, 5)]
 ['1/2', '0', '3/4', '0', '-3/8']
+>>> from rodwebs.peeling import pile_of
+>>> pile = pile_of(web)
+>>> [[str(c) for c in pile.panes], pile.end]
+[['1/2', '0'], 1]
 
 >>> from rodwebs.webs import Web
 >>> from rodwebs.heardparts import silent
@@ -17,6 +21,8 @@ EXAMPLES = """
 >>> [len(silent(two)), len(silent(one))]
 [2, 0]
 >>> echo(two, 5) == echo(one, 5)
+True
+>>> pile_of(two) == pile_of(one)
 True
 
 >>> from rodwebs.webs import Web

@@ -25,6 +25,17 @@ FUNCTIONS = {
     "tellback": {"inside_table": "strengths, echoes", "told_back": "strengths, echoes",
                  "inside_product": "strengths, echoes, first, second", "determinant": "echoes"},
     "endless": {"stay": "player, state", "heard_for_ever": "player, state, ear", "portions": "player"},
+    "peeling": {"peel": "numbers", "pile_of": "player", "begins": "numbers", "next_stretch": "numbers"},
+    "quiet": {"step_numbers": "bottom, size", "quiet": "bottom, size", "quiet_form": "bottom, size",
+              "noise": "bottom, size", "pile_of_bottom": "bottom, size, *, end=1"},
+    "answers": {"answer": "player, count", "resistance": "player, count", "echo_of_answer": "answer, strength",
+                "hang": "web, joint, branch, *, copies=1"},
+    "bushes": {"bushes_alike": "one, other"},
+    "told": {"told_space": "player, ticks, *, ears=None", "tell": "player, measure, ticks, *, ears=None",
+             "least_tick": "player, measure, *, ears=None", "together": "player, ticks, *groups",
+             "in_common": "player, ticks, *groups", "fewest_ears": "player"},
+    "steering": {"reach": "player, ticks", "steer": "player, wish, ticks", "hush": "player, state, ticks",
+                 "least_hush": "player, state", "put_in_unheard": "web, wish, ticks"},
 }
 CLASSES = {
     "fracs": {"Frac": {"__init__": "num=0, den=1", "over": "b", "of": "value", "read": "text"}},
@@ -50,6 +61,17 @@ CLASSES = {
     "piles": {"Pile": {"__init__": "panes, *, end=1, strength=1", "tick": "state, knocks", "back": "state, heard",
                        "product": "first, second", "echo": "count", "ratio": "", "as_web": "", "behind": "pane",
                        "negated": "", "with_end": "end", "spread": "times", "re_eared": "strength"}},
+    "papers": {"Paper": {}, "Alike": {"__init__": "lead"}, "Unlike": {"__init__": "one, other, at, heard, knocked"},
+               "Begins": {"__init__": "numbers, pile"}, "Louder": {"__init__": "numbers, knocks"},
+               "Told": {"__init__": "player, measure, ears, weights"},
+               "Ghost": {"__init__": "player, measure, ears, ticks, state"},
+               "Steered": {"__init__": "player, wish, knocks"}, "Unreached": {"__init__": "player, wish, ticks, bar"},
+               "Hushed": {"__init__": "player, state, knocks"}, "Unhushed": {"__init__": "player, state, ticks, bar"},
+               "Explained": {"__init__": "player, heard, knocks, state"},
+               "Unexplained": {"__init__": "player, heard, knocks, weights"}},
+    "bushes": {"Bush": {"__init__": "*branches", "as_pile": "*, strength=1"},
+               "LevelBush": {"as_web": "*, strength=1", "echo": "count, *, strength=1"},
+               "StreamBush": {"as_web": "*, strength=1", "echo": "count, *, strength=1"}},
 }
 STATIC = {"Frac": ["of", "read"], "Table": ["unit", "zero", "diagonal"], "Space": ["whole", "kernel"],
           "Poly": ["common"], "Core": ["of"], "Lead": ["same"]}
@@ -65,6 +87,7 @@ SIGNS = {
     "Core": "eq",
     "Lead": "call",
     "Pile": "len iter eq",
+    "Bush": "eq",
 }
 PROPERTIES = {("polys", "Poly"): ["degree"], ("webs", "Web"): ["level", "plain"],
               ("records", "Record"): ["energy_in", "energy_out", "energy_left"]}

@@ -264,6 +264,12 @@ class ToldBack(Looks, unittest.TestCase):
         self.assertEqual(told_back([1, 4], [Table([[0, 2], [HALF, 0]]), Table.zero(2, 2)]).cells, 0)
         self.refused(Loud, {"index": 0}, told_back, [1, 1], [Table([[0, 2], [HALF, 0]])])
 
+    def test_loud_by_little(self):
+        self.refused(Loud, {"index": 0}, told_back, [1, 1], [Table([[1, 0], [1, 0]])])
+        self.refused(Loud, {"index": 0}, told_back, [1, 1], [Table([[0, 1], [0, 1]])])
+        self.refused(Loud, {"index": 1}, told_back, [1], singles([HALF, Frac(3 * 10 ** 30 + 1, 4 * 10 ** 30)]))
+        self.assertEqual(told_back([1], singles([HALF, Frac(3, 4), Frac(-3, 8)])).cells, 1)
+
     def test_nothing_changes(self):
         strengths, tables = [3], singles([0, 1])
         core = told_back(strengths, tables)

@@ -1,7 +1,6 @@
 """Bushes: joints with branches that lead to further bushes."""
 
-from rodwebs.checks import check_count, check_rod_length, check_strength
-from rodwebs.errors import TooLarge
+from rodwebs.checks import check_count, check_rod_length, check_size, check_strength
 from rodwebs.fracs import Frac
 from rodwebs.peeling import pile_of
 from rodwebs.powers import MOST, Powers, known_quotient
@@ -19,9 +18,9 @@ class Bush:
             check_rod_length(length)
             check_strength(strength)
         joint_count = 1 + sum([bush.joint_count for _, _, bush in branches])
-        _check_size(joint_count, Web.MOST_JOINTS)
+        check_size(joint_count, Web.MOST_JOINTS)
         cell_count = sum([2 * length + bush.cell_count for length, _, bush in branches])
-        _check_size(cell_count, Web.MOST_CELLS)
+        check_size(cell_count, Web.MOST_CELLS)
         self.branches = tuple([(length, Frac.of(strength), bush) for length, strength, bush in branches])
         self.joint_count = joint_count
         self.cell_count = cell_count
@@ -78,11 +77,6 @@ def bushes_alike(one, other):
     """Whether the webs of two bushes, with ears of strength 1, are alike."""
     count = min(int(one.cell_count), int(other.cell_count)) + 1
     return one.echo(count) == other.echo(count)
-
-
-def _check_size(count, most):
-    if count > most:
-        raise TooLarge(count)
 
 
 def _web_of(bush, strength):

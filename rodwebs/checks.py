@@ -1,7 +1,7 @@
 """Looks at arguments that several modules share."""
 
 from rodwebs.errors import (
-    BadCount, BadKind, BadLength, BadOrder, BadSizes, BadStrength, BadTwist, Mismatch, NoEar, NoJoint, NoRod,
+    BadCount, BadKind, BadLength, BadOrder, BadSizes, BadStrength, BadTwist, Mismatch, NoEar, NoJoint, NoRod, TooLarge,
 )
 
 KINDS = ("level", "stream")
@@ -12,6 +12,12 @@ def check_count(count, low, high):
     """BadCount(count) if the count is not from low to high."""
     if not low <= count <= high:
         raise BadCount(count)
+
+
+def check_size(size, most):
+    """TooLarge(size) if a size is more than the greatest one."""
+    if size > most:
+        raise TooLarge(size)
 
 
 def check_length(numbers, wanted):

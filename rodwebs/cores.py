@@ -1,11 +1,11 @@
 """Cores: players that are given by tables."""
 
-from rodwebs.checks import check_count, check_length, check_order, check_strength
-from rodwebs.errors import BadForm, Mismatch, TooLarge, Unkept
+from rodwebs.checks import check_count, check_length, check_order, check_size, check_strength
+from rodwebs.errors import BadForm, Mismatch, Unkept
 from rodwebs.fracs import Frac, dot, fracs_of
 from rodwebs.players import Player
 from rodwebs.solving import dip
-from rodwebs.tables import Table, applied
+from rodwebs.tables import Table, applied, blocks
 
 MOST_CELLS = 24
 MOST_EARS = 4
@@ -110,22 +110,17 @@ class Core(Player):
 
     def beside(self, other):
         """This core and another one as one core, in which they do not touch each other."""
-        _check_cells(self.cells + other.cells)
+        check_size(self.cells + other.cells, MOST_CELLS)
         check_count(self.ears + other.ears, 0, MOST_EARS)
         return Core(
-            _blocks(self.a, other.a), _blocks(self.b, other.b), _blocks(self.c, other.c), _blocks(self.d, other.d),
-            form=_blocks(self.energy_form, other.energy_form), strengths=self.strengths + other.strengths,
+            blocks(self.a, other.a), blocks(self.b, other.b), blocks(self.c, other.c), blocks(self.d, other.d),
+            form=blocks(self.energy_form, other.energy_form), strengths=self.strengths + other.strengths,
         )
-
-
-def _check_cells(count):
-    if count > MOST_CELLS:
-        raise TooLarge(count)
 
 
 def _check_tables(a, b, c, d):
     _check_shape(a, a.height, a.height)
-    _check_cells(a.height)
+    check_size(a.height, MOST_CELLS)
     _check_shape(b, a.height, b.width)
     check_count(b.width, 0, MOST_EARS)
     _check_shape(c, b.width, a.height)
@@ -154,7 +149,7 @@ def _check_strengths(strengths, ears):
 def _check_kept(core):
     """Unkept(state, knocks) if there is a tick of the core that does not keep energy."""
     whole = Table([left + right for left, right in zip(core.a.rows + core.c.rows, core.b.rows + core.d.rows)])
-    weights = _blocks(core.energy_form, Table.diagonal(core.strengths))
+    weights = blocks(core.energy_form, Table.diagonal(core.strengths))
     change = whole.transposed() * weights * whole - weights
     places = _changed_places(change)
     if places is not None:
@@ -190,10 +185,3 @@ def _inverted(strengths):
 
 def _picked(table, rows, cols):
     return Table([[table[row, col] for col in cols] for row in rows], width=len(cols))
-
-
-def _blocks(one, other):
-    """The table with two tables on its diagonal and 0 elsewhere."""
-    upper = [list(row) + [0] * other.width for row in one.rows]
-    lower = [[0] * one.width + list(row) for row in other.rows]
-    return Table(upper + lower, width=one.width + other.width)

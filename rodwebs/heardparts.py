@@ -67,3 +67,15 @@ def told_by_ticks(player, group, ticks):
     """The list of the Spaces of the measures that these ears tell in each number of ticks from 0 on."""
     a, _, c, _ = player.tick_tables()
     return grown([c.rows[ear] for ear in group], a.transposed(), ticks)
+
+
+def heard_rows(player, group, ticks):
+    """The list of the measures of what these ears hear when the player is played alone, tick by tick, ear by ear."""
+    a, _, c, _ = player.tick_tables()
+    onward = a.transposed()
+    now = [c.rows[ear] for ear in group]
+    out = []
+    for _ in range(ticks):
+        out.extend(now)
+        now = [tuple(onward(row)) for row in now]
+    return out

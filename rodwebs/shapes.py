@@ -58,6 +58,13 @@ def ears_ordered(web, order):
 
 def side_by_side(*webs):
     """One web of several webs."""
+    joints, rods, ears = laid_out(webs)
+    # Web refuses what is too many, in the order joints, rods, cells, ears.
+    return Web(joints, rods, ears)
+
+
+def laid_out(webs):
+    """The lists of the joints, rods and ears of several webs, numbered web by web."""
     joints = []
     rods = []
     ears = []
@@ -66,5 +73,4 @@ def side_by_side(*webs):
         rods.extend([(first + rod[0], first + rod[1], *rod[2:]) for rod in web.rods])
         ears.extend([(first + joint, strength) for joint, strength in web.ear_list])
         joints.extend(web.joints)
-    # Web refuses what is too many, in the order joints, rods, cells, ears.
-    return Web(joints, rods, ears)
+    return joints, rods, ears

@@ -3,7 +3,7 @@
 from rodwebs.checks import check_length
 from rodwebs.errors import Barred, Mismatch
 from rodwebs.fracs import Frac, dot, fracs_of
-from rodwebs.rows import solution, whole_rows
+from rodwebs.rows import reduced, solution, whole_rows
 
 
 def solve(table, values):
@@ -20,14 +20,15 @@ def least_solution(table, values, form):
     check_length(values, table.height)
     if form.height != table.width or form.width != table.width:
         raise Mismatch()
-    # At the least list, and only there, the form applied to it is a sum of multiples of the rows of the table.
-    bound = [row + tuple(table.column(k)) for k, row in enumerate(form.rows)]
-    told = [row + (Frac(0),) * table.height for row in table.rows]
-    wanted = [Frac(0)] * table.width + fracs_of(values)
-    found = solution(bound + told, wanted, table.width + table.height)
-    if found is None:
+    # Reduced, the equations are no more than the unknown numbers, and their numbers are short.
+    pivots, basis = reduced([[*row, value] for row, value in zip(table.rows, fracs_of(values))])
+    if table.width in pivots:
         raise Barred(_bar(table, values))
-    return found[:table.width]
+    # At the least list, and only there, the form applied to it is a sum of multiples of the rows of the table.
+    bound = [row + tuple([told[k] for told in basis]) for k, row in enumerate(form.rows)]
+    told_rows = [row[:-1] + (Frac(0),) * len(basis) for row in basis]
+    wanted = [Frac(0)] * table.width + [row[-1] for row in basis]
+    return solution(bound + told_rows, wanted, table.width + len(basis))[:table.width]
 
 
 def dip(form):

@@ -114,6 +114,13 @@ def applied(table, numbers):
     return [dot(row, numbers) for row in table.rows]
 
 
+def blocks(one, other):
+    """The table with two tables on its diagonal and 0 elsewhere."""
+    upper = [list(row) + [0] * other.width for row in one.rows]
+    lower = [[0] * one.width + list(row) for row in other.rows]
+    return Table(upper + lower, width=one.width + other.width)
+
+
 def _check_rows(rows):
     check_count(len(rows), 0, MOST)
     if rows:

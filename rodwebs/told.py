@@ -3,7 +3,7 @@
 from rodwebs.checks import check_count, check_length
 from rodwebs.errors import BadCount
 from rodwebs.fracs import Frac, dot, fracs_of
-from rodwebs.heardparts import group_of, told_by_ticks, unheard
+from rodwebs.heardparts import group_of, heard_rows, told_by_ticks, unheard
 from rodwebs.papers import Ghost, Told
 from rodwebs.players import MOST_TICKS
 from rodwebs.rows import solution
@@ -67,14 +67,8 @@ def fewest_ears(player):
 
 def _weights(player, measure, ticks, group):
     """Weights, one list for each tick, with which the ears of a group tell a measure that they do tell."""
-    a, _, c, _ = player.tick_tables()
-    onward = a.transposed()
-    rows = [c.rows[ear] for ear in group]
-    heard = []
     # What is told at all is told in as many ticks as there are cells.
-    for _ in range(min(int(ticks), int(player.cells))):
-        heard.extend(rows)
-        rows = [onward(row) for row in rows]
+    heard = heard_rows(player, group, min(int(ticks), int(player.cells)))
     found = solution([[row[cell] for row in heard] for cell in range(player.cells)], measure, len(heard))
     found.extend([Frac(0)] * (ticks * len(group) - len(heard)))
     return [found[tick * len(group):(tick + 1) * len(group)] for tick in range(ticks)]

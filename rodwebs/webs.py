@@ -1,9 +1,9 @@
 """Webs of joints, rods and ears."""
 
 from rodwebs.checks import (
-    check_count, check_joint, check_kind, check_length, check_rod, check_rod_length, check_strength, check_twist,
+    check_count, check_joint, check_kind, check_length, check_rod, check_rod_length, check_size, check_strength,
+    check_twist,
 )
-from rodwebs.errors import TooLarge
 from rodwebs.fracs import Frac, dot, fracs_of
 from rodwebs.joints import common, scatter
 from rodwebs.players import Player
@@ -147,8 +147,7 @@ def cell_count(rods):
 
 def check_cells(count):
     """TooLarge(cells) if no web has so many cells."""
-    if count > Web.MOST_CELLS:
-        raise TooLarge(count)
+    check_size(count, Web.MOST_CELLS)
 
 
 def _check_joints(joints):

@@ -1,4 +1,4 @@
-"""Point 129: the examples, as far as they are built."""
+"""Point 129: the examples, as they stand in the document."""
 
 import doctest
 import unittest
@@ -15,15 +15,12 @@ EXAMPLES = """
 [['1/2', '0'], 1]
 
 >>> from rodwebs.webs import Web
+>>> from rodwebs.alike import alike
 >>> from rodwebs.heardparts import silent
 >>> two = Web(["level", "level", "level"], [(0, 1, 1, 1), (0, 2, 1, 1)], [(0, 1)])
 >>> one = Web(["level", "level"], [(0, 1, 1, 2)], [(0, 1)])
->>> [len(silent(two)), len(silent(one))]
-[2, 0]
->>> echo(two, 5) == echo(one, 5)
-True
->>> pile_of(two) == pile_of(one)
-True
+>>> [alike(two, one), len(silent(two)), len(silent(one))]
+[True, 2, 0]
 
 >>> from rodwebs.webs import Web
 >>> web = Web(["level", "stream"], [(0, 1, 1, 2)], [(0, 1)])

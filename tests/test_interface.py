@@ -36,6 +36,23 @@ FUNCTIONS = {
              "in_common": "player, ticks, *groups", "fewest_ears": "player"},
     "steering": {"reach": "player, ticks", "steer": "player, wish, ticks", "hush": "player, state, ticks",
                  "least_hush": "player, state", "put_in_unheard": "web, wish, ticks"},
+    "explaining": {"explanation": "player, heard, *, knocks=None"},
+    "rounds": {"period": "player, state", "come_round": "player, knocks"},
+    "alike": {"first_difference": "one, other", "alike": "one, other", "compare": "one, other",
+              "lead_between": "one, other"},
+    "folds": {"classes": "web", "fold": "web"},
+    "sheets": {"sheets": "web, count, shuffles"},
+    "doubles": {"parted_at": "web, joints", "doubled": "web, joints"},
+    "discount": {"discounted": "player, value", "discounted_at_rest": "web, value",
+                 "discounted_start": "player, state, value"},
+    "moves": {"turn": "web, rod", "renumber": "web, order", "split": "web, rod, at", "merge": "web, joint",
+              "twin": "web, first, second"},
+    "slides": {"slide": "web, stub, rod", "unslide": "web, stub, rod"},
+    "joins": {"linked_web": "webs, links", "cut": "web, rod", "closed": "web, ear, kind, *, length=1",
+              "behind": "web, length, strength"},
+    "scripts": {"perform": "desk, deeds"},
+    "firsts": {"earliest": "web, joints, heard, knocked", "first_change": "one, other, heard, knocked, within"},
+    "checker": {"accepts": "paper"},
 }
 CLASSES = {
     "fracs": {"Frac": {"__init__": "num=0, den=1", "over": "b", "of": "value", "read": "text"}},
@@ -72,6 +89,13 @@ CLASSES = {
     "bushes": {"Bush": {"__init__": "*branches", "as_pile": "*, strength=1"},
                "LevelBush": {"as_web": "*, strength=1", "echo": "count, *, strength=1"},
                "StreamBush": {"as_web": "*, strength=1", "echo": "count, *, strength=1"}},
+    "linked": {"Linked": {"__init__": "players, links", "tick": "state, knocks", "back": "state, heard",
+                          "product": "first, second", "parts": "state", "exchanged": "index, lead"}},
+    "desk": {"Desk": {"__init__": "web, state=None", "web_now": "", "state_now": "", "knock_lists": "",
+                      "heard_lists": "", "set_limit": "limit", "book": "", "knock": "*knocks", "wait": "ticks",
+                      "add_rod": "joint, *, kind='level', length=1, strength=1, twist=1", "take_off": "rod",
+                      "retune": "rod, strength", "set_kind": "joint, kind", "move": "name, *arguments", "undo": "",
+                      "redo": "", "trial": ""}},
 }
 STATIC = {"Frac": ["of", "read"], "Table": ["unit", "zero", "diagonal"], "Space": ["whole", "kernel"],
           "Poly": ["common"], "Core": ["of"], "Lead": ["same"]}
@@ -88,9 +112,11 @@ SIGNS = {
     "Lead": "call",
     "Pile": "len iter eq",
     "Bush": "eq",
+    "Desk": "len iter",
 }
 PROPERTIES = {("polys", "Poly"): ["degree"], ("webs", "Web"): ["level", "plain"],
-              ("records", "Record"): ["energy_in", "energy_out", "energy_left"]}
+              ("records", "Record"): ["energy_in", "energy_out", "energy_left"],
+              ("desk", "Desk"): ["energy_left", "tick_count", "limit"]}
 
 
 def module(name):
@@ -108,7 +134,7 @@ class Interface(unittest.TestCase):
             for function, wanted in functions.items():
                 found = getattr(module(name), function)
                 self.assertTrue(inspect.isfunction(found))
-                self.assertEqual(found.__module__, "rodwebs." + name)
+                self.assertEqual((found.__module__, found.__name__), ("rodwebs." + name, function))
                 self.assertEqual(parameters(found), wanted, function)
 
     def test_classes(self):
@@ -134,13 +160,16 @@ class Interface(unittest.TestCase):
                 for sign in SIGNS.get(title, "").split():
                     self.assertIn(f"__{sign}__", vars(getattr(module(name), title)), title)
 
+    def test_assigned_property(self):
+        self.assertIsNotNone(vars(module("desk").Desk)["limit"].fset)
+
     def test_properties(self):
         for (name, title), listed in PROPERTIES.items():
             for listed_name in listed:
                 self.assertIsInstance(vars(getattr(module(name), title))[listed_name], property)
 
     def test_players(self):
-        for name, title in (("webs", "Web"), ("cores", "Core"), ("piles", "Pile")):
+        for name, title in (("webs", "Web"), ("cores", "Core"), ("piles", "Pile"), ("linked", "Linked")):
             found = getattr(module(name), title)
             self.assertTrue(issubclass(found, Player))
             for method in ("tick", "back", "product"):

@@ -86,6 +86,15 @@ def functions(tree):
     return [node for node in ast.walk(tree) if isinstance(node, ast.FunctionDef)]
 
 
+def decorators(function):
+    """The decorators of a function as texts, such as `property` and `limit.setter`."""
+    return [ast.unparse(node) for node in function.decorator_list]
+
+
+def parents(tree):
+    return {inner: node for node in ast.walk(tree) for inner in ast.iter_child_nodes(node)}
+
+
 class Files(unittest.TestCase):
     def test_names(self):
         """L1, L14: plain .py files with lower-case names, and nothing else."""
@@ -202,9 +211,9 @@ class Statements(unittest.TestCase):
                 if isinstance(node, ast.stmt):
                     self.assertIsInstance(node, STATEMENTS, (name, node.lineno))
                 if isinstance(node, ast.FunctionDef):
-                    for decorator in node.decorator_list:
-                        self.assertIsInstance(decorator, ast.Name, (name, node.name))
-                        self.assertIn(decorator.id, ("property", "staticmethod", "classmethod"))
+                    self.assertLessEqual(len(node.decorator_list), 1)
+                    for decorator in decorators(node):
+                        self.assertIn(decorator, ("property", "staticmethod", "classmethod", node.name + ".setter"))
                     self.assertIsNone(node.returns)
                 if isinstance(node, ast.arg):
                     self.assertIsNone(node.annotation)
@@ -296,6 +305,76 @@ class Statements(unittest.TestCase):
         # It is not called in the package, and no attribute has its name.
         self.assertNotIn("states", called)
 
+    def test_iterated_at_once(self):
+        """L23: ranges, zips, views and the like are iterated where they stand: not kept, passed on or returned."""
+        takers = {"list", "tuple", "dict", "sorted", "sum", "any", "all", "enumerate", "zip", "min", "max"}
+        for name, tree in trees():
+            above = parents(tree)
+            for node in ast.walk(tree):
+                if not isinstance(node, ast.Call):
+                    continue
+                # What a call returns is called by a name only (L5 Callable objects).
+                self.assertIsInstance(node.func, (ast.Name, ast.Attribute), (name, node.lineno))
+                title = node.func.id if isinstance(node.func, ast.Name) else node.func.attr
+                if title not in ("range", "zip", "enumerate", "reversed", "items", "values", "keys"):
+                    continue
+                holder = above[node]
+                if isinstance(holder, (ast.For, ast.comprehension)):
+                    self.assertIs(holder.iter, node, (name, node.lineno))
+                else:
+                    self.assertIsInstance(holder, ast.Call, (name, node.lineno))
+                    self.assertIsInstance(holder.func, ast.Name, (name, node.lineno))
+                    self.assertIn(holder.func.id, takers, (name, node.lineno))
+
+    def test_stars(self):
+        """L7: behind the star of a call stand names and attributes off names."""
+        for name, tree in trees():
+            for node in ast.walk(tree):
+                if isinstance(node, ast.Call):
+                    for part in node.args:
+                        if isinstance(part, ast.Starred):
+                            self.assertIsInstance(part.value, (ast.Name, ast.Attribute), (name, node.lineno))
+                    self.assertTrue(all(part.arg for part in node.keywords), (name, node.lineno))
+
+    def test_iteration(self):
+        """L5, L28: objects are iterated over by one return, and have the length of what they hold."""
+        for name, tree in trees():
+            for node in functions(tree):
+                text = ast.unparse(node.body[-1])
+                if node.name == "__iter__":
+                    self.assertEqual(len(node.body), 1)
+                    self.assertRegex(text, r"^return iter\(self(\.\w+){1,2}\)$")
+                if node.name == "__len__":
+                    self.assertEqual(len(node.body), 1)
+                    self.assertRegex(text, r"^return len\(self(\.\w+){1,2}\)$")
+
+    def test_context_managers(self):
+        """L6: what ends a with statement only assigns attributes, and does not look at the error."""
+        ended = []
+        for name, tree in trees():
+            for node in functions(tree):
+                if node.name == "__exit__":
+                    ended.append(name)
+                    self.assertEqual([part.arg for part in node.args.args], ["self", "kind", "value", "trace"])
+                    for part in node.body:
+                        self.assertIsInstance(part, ast.Assign, (name, part.lineno))
+                        for side in (part.value, *part.targets):
+                            self.assertIsInstance(side, ast.Attribute, (name, part.lineno))
+                if node.name == "__enter__":
+                    self.assertEqual([part.arg for part in node.args.args], ["self"])
+        self.assertEqual(ended, ["desk.py"])
+
+    def test_errors(self):
+        """L19: errors are created where they are raised, and own errors only are caught."""
+        for name, tree in trees():
+            for node in ast.walk(tree):
+                if isinstance(node, ast.Raise):
+                    self.assertIsInstance(node.exc, ast.Call, (name, node.lineno))
+                    self.assertFalse(node.exc.keywords, (name, node.lineno))
+                if isinstance(node, ast.ExceptHandler):
+                    self.assertIsInstance(node.type, ast.Name, (name, node.lineno))
+                    self.assertFalse(hasattr(builtins, node.type.id), (name, node.lineno))
+
     def test_what_operators_run(self):
         """L5: what an operator or a property runs calls no object and changes nothing but lists and dicts of its own.
 
@@ -306,8 +385,8 @@ class Statements(unittest.TestCase):
             classes |= {node.name for node in ast.walk(tree) if isinstance(node, ast.ClassDef)}
             for node in functions(tree):
                 bodies.setdefault(node.name, []).append(node)
-                plain = node.name.startswith("__") and node.name not in ("__init__", "__call__", "__iadd__")
-                if plain or [part for part in node.decorator_list if part.id == "property"]:
+                free = ("__init__", "__call__", "__iadd__", "__enter__", "__exit__")
+                if node.name.startswith("__") and node.name not in free or "property" in decorators(node):
                     started.append(node.name)
         seen = set()
         while started:
@@ -315,8 +394,10 @@ class Statements(unittest.TestCase):
             if title not in seen:
                 seen.add(title)
                 for node in bodies[title]:
-                    started.extend(self.run_by(node, bodies, classes))
-        self.assertLessEqual({"product", "energy", "reduced", "applied"}, seen)
+                    # A property that is assigned may change what it likes.
+                    if title + ".setter" not in decorators(node):
+                        started.extend(self.run_by(node, bodies, classes))
+        self.assertLessEqual({"product", "energy", "reduced", "applied", "parts", "energy_inside"}, seen)
 
     def run_by(self, function, bodies, classes):
         own = set()
@@ -409,22 +490,33 @@ class Names(unittest.TestCase):
 
     def test_methods_and_attributes(self):
         """L5, L18: static and class methods, properties and class values share their names with nothing."""
-        attributes, plain, fixed = set(), set(), {}
+        attributes, plain, fixed, settable = set(), set(), {}, set()
         for _, tree in trees():
             for node in ast.walk(tree):
                 if isinstance(node, ast.Attribute) and isinstance(node.ctx, ast.Store):
                     attributes.add(node.attr)
                 if isinstance(node, ast.ClassDef):
-                    names = [part.name for part in node.body if isinstance(part, ast.FunctionDef)]
+                    methods = [part for part in node.body if isinstance(part, ast.FunctionDef)]
+                    setters = [part for part in methods if part.name + ".setter" in decorators(part)]
+                    for part in setters:
+                        # The setter stands below the property of its name, with just one parameter of its own.
+                        above = methods[methods.index(part) - 1]
+                        self.assertEqual((above.name, decorators(above)), (part.name, ["property"]))
+                        self.assertEqual(len(part.args.args), 2)
+                        settable.add(part.name)
+                    names = [part.name for part in methods if part not in setters]
                     self.assertEqual(len(names), len(set(names)), node.name)
                     for part in node.body:
+                        if part in setters:
+                            continue
                         if isinstance(part, ast.FunctionDef) and part.decorator_list:
                             fixed.setdefault(part.name, set()).add(part.decorator_list[0].id)
                         elif isinstance(part, ast.FunctionDef):
                             plain.add(part.name)
                         if isinstance(part, ast.Assign):
                             fixed.setdefault(part.targets[0].id, set()).add("value")
-        self.assertFalse(set(fixed) & (plain | attributes | METHODS))
+        self.assertEqual(settable, {"limit"})
+        self.assertFalse(set(fixed) & (plain | (attributes - settable) | METHODS))
         self.assertFalse(attributes & plain)
         # Several classes may have one name for things of one kind, as static methods called "of".
         self.assertEqual([name for name in fixed if len(fixed[name]) > 1], [])

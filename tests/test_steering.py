@@ -15,7 +15,7 @@ from rodwebs.steering import hush, least_hush, put_in_unheard, reach, steer
 from rodwebs.tables import Table
 from rodwebs.webs import Web
 from tests.helpers import Looks, exact, fracs, rank_of, source
-from tests.players import TOLD, inner, loudness, some_players, units, web_of
+from tests.players import TOLD, brought, inner, loudness, some_knocks, some_players, units, web_of
 from tests.told import some_state
 
 WEB = web_of(TOLD)
@@ -29,14 +29,6 @@ def single_knocks(player, ticks):
     for tick in range(ticks):
         for numbers in units(player.ears):
             yield [numbers if k == tick else [Frac(0)] * player.ears for k in range(ticks)]
-
-
-def brought(player, knocks):
-    return play(player, player.rest(), knocks).now()
-
-
-def some_knocks(draw, player, ticks):
-    return [fracs(some_state(draw, player.ears)) for _ in range(ticks)]
 
 
 def small_players(draw, count=3):

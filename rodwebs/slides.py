@@ -14,11 +14,10 @@ def slide(web, stub, rod):
     small = web.rods[stub][3]
     large = web.rods[rod][3]
     total = small + large
-    joints = [
-        "stream" if joint in (tip, far) else kind for joint, kind in enumerate(web.joints)
-    ]
+    joints = _with_kind(web, (tip, far), "stream")
     rods = _exchanged_rods(web, stub, rod, (near, far), (large * total.over(small), total))
-    # Both arrive at the near joint, and at the far one, as before; each tick keeps that so.
+    # The near and the far joint must send the same numbers as before to their other arms, whatever arrives there, now
+    # and in each later tick: only these numbers do so.
     twist = web.rods[rod][4]
     part = small.over(total)
     numbers = rod_numbers(web)
@@ -43,12 +42,11 @@ def unslide(web, stub, rod):
     small = web.rods[stub][3]
     large = web.rods[rod][3]
     part = large.over(small + large)
-    joints = [
-        "level" if joint in (tip, near) else kind for joint, kind in enumerate(web.joints)
-    ]
+    joints = _with_kind(web, (tip, near), "level")
     rods = _exchanged_rods(web, stub, rod, (near, far), (large * part, small * part))
     twist = -web.rods[rod][4]
     more = small.over(large)
+    # The opposite of what slide makes of these numbers.
     numbers = rod_numbers(web)
     stub_away, stub_back = _from_joint(web, stub, near, numbers[stub])
     away, back = _from_joint(web, rod, near, numbers[rod])
@@ -80,6 +78,11 @@ def _places(web, stub, rod):
 
 def _kinds(web, joints):
     return [web.joints[joint] for joint in joints]
+
+
+def _with_kind(web, places, kind):
+    """The kinds of the joints, with this kind at some places."""
+    return [kind if joint in places else old for joint, old in enumerate(web.joints)]
 
 
 def _exchanged_rods(web, stub, rod, joints, strengths):

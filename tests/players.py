@@ -70,7 +70,7 @@ class Leads:
         """A lead from the one player to the other one, as it goes along with some played ticks."""
         self.assertEqual(type(lead).__name__, "Lead")
         self.assertIs(lead.first, first)
-        self.assertIs(lead.second, second) if second is not None else None
+        self.assertIs(lead.second, second)
         self.assertEqual((lead.table.height, lead.table.width), (lead.second.cells, first.cells))
         knocks = some_knocks(draw, first, ticks)
         ahead = play(first, fracs(some_state(draw, first.cells)), knocks)

@@ -88,7 +88,7 @@ class AlikePlayers(Players):
     def test_with_cores_and_piles(self):
         draw = source(1080)
         for player in [WEB, TWO, *some_players(draw, 0)]:
-            others = [player, Core.of(player), heard_part(player).second, Linked([player], [])]
+            others = [player, heard_part(player).second, Linked([Core.of(player)], [])]
             if player.ears == 1:
                 others.append(pile_of(player))
             for other in others:
@@ -136,7 +136,7 @@ class UnlikePlayers(Players):
         draw = source(1084)
         seen = {True: 0, False: 0}
         groups = {}
-        for player in [WEB, TWO, ONE, *some_players(draw, 40)]:
+        for player in [WEB, TWO, ONE, *some_players(draw, 25)]:
             if player.ears <= 2:
                 groups.setdefault(player.ears, []).append(player)
         for ears, players in groups.items():
@@ -145,7 +145,7 @@ class UnlikePlayers(Players):
                 given = Core(core.a, core.b, core.c, core.d, form=core.energy_form, strengths=core.strengths)
                 if one.strengths == given.strengths:
                     seen[self.looked_at(one, given, draw)] += 1
-        for player in [WEB, *(player for player in some_players(draw, 20) if isinstance(player, Web))]:
+        for player in [WEB, *(player for player in some_players(draw, 8) if isinstance(player, Web))]:
             if player.ears and player.rods:
                 start, end, length, strength, twist = player.rods[0]
                 for rod in ((start, end, length, strength * 2, twist), (start, end, length, strength, -twist)):

@@ -201,6 +201,21 @@ class Accepting(Looks, unittest.TestCase):
             for knocked in (0, 1):
                 self.looked_at(Unlike(WEB, core, 3, heard, knocked), False)
 
+    def test_one_ear_of_several(self):
+        """Only the ear that is named knocks, and each ear by itself reaches states."""
+        one = Web(["level"] * 2, [(0, 1, 1, 1)], [(0, 1), (1, 1)])
+        other = Web(["level"] * 2, [(0, 1, 1, 1, -1)], [(0, 1), (1, 1)])
+        for heard in (0, 1):
+            for knocked in (0, 1):
+                self.looked_at(Unlike(one, other, 1, heard, knocked), heard != knocked)
+        apart = Web(["level"] * 4, [(0, 1, 1, 1), (2, 3, 1, 1)], [(0, 1), (2, 1)])
+        self.looked_at(Unreached(apart, [1, 0, 0, 0], 1, [1, 0, -1, 0]), False)
+        self.looked_at(Unreached(apart, [1, 1, 0, 0], 1, [0, 1, 0, -1]), True)
+        self.looked_at(Unhushed(apart, [1, 0, 1, 0], 1, [1, 0, -1, 0]), False)
+        self.looked_at(Told(apart, [0, 1, 0, 0], (0, 1), [[1, 0]]), True)
+        self.looked_at(Told(apart, [0, 1, 0, 0], (1, 0), [[1, 0]]), False)
+        self.looked_at(Told(apart, [0, 0, 0, 1], (1,), [[1]]), True)
+
     def test_begins(self):
         self.looked_at(Begins([], Pile([HALF])), True)
         self.looked_at(Begins([HALF, Frac(3, 4), 0], Pile([HALF])), False)

@@ -320,6 +320,8 @@ class Refused(Desks):
             self.refuses(desk, BadTwist, {"twist": twist}, "add_rod", 0, length=12, twist=twist)
         self.refuses(desk, TooLarge, {"size": 26}, "add_rod", 0, length=10)
         self.refuses(Desk(Web(["level"] * 8)), BadCount, {"count": 9}, "add_rod", 0, length=12)
+        self.refuses(Desk(Web(["level"] * 8)), BadTwist, {"twist": 3}, "add_rod", 0, length=12, twist=3)
+        self.refuses(Desk(Web(["level"] * 8)), BadStrength, {"strength": 0}, "add_rod", 0, strength=0, twist=3)
         rods = Web(["level"], [(0, 0, 1, 1)] * 8)
         self.refuses(Desk(rods), BadCount, {"count": 9}, "add_rod", 0, length=12)
         self.refuses(Desk(Web(["level"] * 8, [(0, 0, 1, 1)] * 8)), BadCount, {"count": 9}, "add_rod", 0)

@@ -76,7 +76,7 @@ class Earliest(Looks, unittest.TestCase):
 class FirstChange(Looks, unittest.TestCase):
     def test_any(self):
         draw = source(1261)
-        players = [WEB, *some_players(draw, 10)]
+        players = [WEB, *some_players(draw, 4)]
         pairs = [(one, other) for k, one in enumerate(players) for other in players[k:]
                  if one.ears and one.strengths == other.strengths]
         for one in players:
